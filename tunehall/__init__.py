@@ -1,0 +1,1 @@
+"""Tunehall: stations given tunes so that near ones keep apart."""
