@@ -3,6 +3,7 @@
 import copy
 import unittest
 
+from tests.made import Odd
 from tunehall import errors
 from tunehall.errors import BadWeb, TuneError
 from tunehall.webs import is_web, need_web
@@ -12,18 +13,6 @@ OTHERS = (errors.BadText, errors.Lacking, errors.Twice, errors.BadNumber, errors
 ONE = (("a",), 1, ((0,),), (1,))
 THREE = (("a", "b", "c"), 4, ((0, 2, 5), (2, 0, 1), (5, 1, 0)), (15, 0, 6))
 NAMES, MANY, GAPS, LISTS = THREE
-
-
-class Odd:
-    """A thing that can't be shown, compared, hashed or measured."""
-
-    __hash__ = None
-
-    def refuse(self, *_):
-        raise RuntimeError("not to be asked")
-
-    __repr__ = __eq__ = __ne__ = __lt__ = __le__ = __gt__ = __ge__ = __len__ = __bool__ = __iter__ = refuse
-    __getitem__ = __contains__ = __index__ = __int__ = refuse
 
 
 THINGS = (

@@ -67,6 +67,13 @@ def are_whole(things, count, low, high):
     return all([is_whole(thing, low, high) for thing in things])
 
 
+def are_stations(things, count):
+    """Whether something, of any kind, is a tuple of stations below count, rising."""
+    if not isinstance(things, tuple) or not are_whole(things, len(things), 0, count - 1):
+        return False
+    return all([things[at - 1] < things[at] for at in range(1, len(things))])
+
+
 def are_names(things):
     """Whether something, of any kind, is a web's NAMES."""
     if not isinstance(things, tuple) or not 1 <= len(things) <= MOST_STATIONS:
