@@ -102,6 +102,52 @@ def with_other(row, at, thing):
     return row[:at] + (thing,) + row[at + 1:]
 
 
+def is_number(thing):
+    return isinstance(thing, int) and not isinstance(thing, bool)
+
+
+def places(thing, at=()):
+    """The places of all things within something."""
+    yield at
+    if isinstance(thing, tuple):
+        for k, part in enumerate(thing):
+            yield from places(part, at + (k,))
+
+
+def put(thing, at, other):
+    """The thing with an other thing at one place."""
+    if not at:
+        return other
+    return with_other(thing, at[0], put(thing[at[0]], at[1:], other))
+
+
+def part_at(thing, at):
+    for k in at:
+        thing = thing[k]
+    return thing
+
+
+def near_to(part):
+    """Things that are just a little otherwise than a part."""
+    if isinstance(part, tuple):
+        yield list(part)
+        yield part + part[-1:]
+        yield part + (0,)
+        yield part[:-1]
+        yield part[1:]
+        yield part[::-1]
+        yield ()
+        yield (part,)
+        for k in range(len(part) - 1):
+            yield part[:k] + (part[k + 1], part[k]) + part[k + 2:]
+            yield part[:k] + part[k + 1:]
+            yield part[:k] + part[k:k + 1] + part[k:]
+    elif isinstance(part, str):
+        yield from ("none", "crowd", "cases", "dear", "", part.upper(), part + " ", part[:-1], part.encode())
+    else:
+        yield from (part - 1, part + 1, -part - 1, part + 100, bool(part), float(part % 1000), str(part), (part,), None)
+
+
 class Looking:
     """Beside unittest.TestCase: how what is told and what is refused is looked at."""
 

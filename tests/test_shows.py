@@ -5,7 +5,8 @@ import random
 import unittest
 
 from tests.made import (
-    THINGS, Looking, all_near, deep, random_web, ring, tunes_left, web_made, web_of_gaps, with_other)
+    THINGS, Looking, all_near, deep, is_number, near_to, part_at, places, put, random_web, ring, tunes_left, web_made,
+    web_of_gaps)
 from tunehall.errors import NoPlan
 from tunehall.fewest import fewest, shows, without
 
@@ -14,10 +15,6 @@ RING = ring(60, 1)
 # Two near stations that may have two tunes each, and one that hangs loosely.
 PAIR = web_made(6, {(0, 1): 2}, 3, (0b011, 0b011, 0b111))
 PAIRED = ("cases", 0, ((0, ("none", 1)), (1, ("none", 1))))
-
-
-def is_number(thing):
-    return isinstance(thing, int) and not isinstance(thing, bool)
 
 
 def shows_told(web, many, given, thing):
@@ -43,48 +40,6 @@ def shows_told(web, many, given, thing):
         return False
     return ([tune for tune, _ in thing[2]] == tunes
             and all(shows_told(web, many, {**given, thing[1]: tune}, shown) for tune, shown in thing[2]))
-
-
-def places(thing, at=()):
-    """The places of all things within something."""
-    yield at
-    if isinstance(thing, tuple):
-        for k, part in enumerate(thing):
-            yield from places(part, at + (k,))
-
-
-def put(thing, at, other):
-    """The thing with an other thing at one place."""
-    if not at:
-        return other
-    return with_other(thing, at[0], put(thing[at[0]], at[1:], other))
-
-
-def part_at(thing, at):
-    for k in at:
-        thing = thing[k]
-    return thing
-
-
-def near_to(part):
-    """Things that are just a little otherwise than a part."""
-    if isinstance(part, tuple):
-        yield list(part)
-        yield part + part[-1:]
-        yield part + (0,)
-        yield part[:-1]
-        yield part[1:]
-        yield part[::-1]
-        yield ()
-        yield (part,)
-        for k in range(len(part) - 1):
-            yield part[:k] + (part[k + 1], part[k]) + part[k + 2:]
-            yield part[:k] + part[k + 1:]
-            yield part[:k] + part[k:k + 1] + part[k:]
-    elif isinstance(part, str):
-        yield from ("none", "crowd", "cases", "dear", "", part.upper(), part + " ", part[:-1], part.encode())
-    else:
-        yield from (part - 1, part + 1, -part - 1, part + 100, bool(part), float(part), str(part), (part,), None)
 
 
 class Shows(Looking, unittest.TestCase):
